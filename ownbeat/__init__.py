@@ -1,0 +1,1 @@
+"""Ownbeat: bits over a wire without a clock."""
