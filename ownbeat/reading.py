@@ -1,7 +1,8 @@
 """Reading back: at once, late, or never."""
 
 from ownbeat.errors import NoCode, NoWire
-from ownbeat.walks import comes_back, first_return, is_letter_list, is_whole, layers_of, longest_walk, reached, words_of
+from ownbeat.walks import comes_back, first_return, is_letter_list, is_whole, layers_of, longest_walk
+from ownbeat.walks import pair_graph, pair_steps, pairs_on_the_way, reached, words_of
 
 
 def is_plain(code):
@@ -34,13 +35,13 @@ def given_words(code, wire):
 
 
 def late(code):
-    graph = pair_graph(code)
+    graph = pair_graph(code, reached(code))
     layers = layers_of(first_pairs(code), graph)
     return None if comes_back(layers, graph) else len(layers)
 
 
 def never(code):
-    graph = pair_graph(code)
+    graph = pair_graph(code, reached(code))
     layers = layers_of(first_pairs(code), graph)
     if not comes_back(layers, graph):
         return None
@@ -62,25 +63,6 @@ def first_pairs(code):
     return pairs
 
 
-def pair_graph(code):
-    states = reached(code)
-    graph = {}
-    for one in states:
-        for other in states:
-            graph[(one, other)] = pair_steps(code, one, other)
-    return graph
-
-
-def pair_steps(code, one, other):
-    # The letters of both that come to one word, with the states behind them.
-    steps = []
-    for letter, row in enumerate(code[2][one]):
-        for another, beside in enumerate(code[2][other]):
-            if row[0] == beside[0]:
-                steps.append(((letter, another), (row[1], beside[1])))
-    return steps
-
-
 def never_shows(code, answer):
     if not has_never_shape(code, answer):
         return False
@@ -91,7 +73,8 @@ def never_shows(code, answer):
         return False
     if not 0 <= answer[3] < len(one) or one[0] == other[0]:
         return False
-    return wires_are_one_round(code, answer)
+    pairs = pairs_on_the_way(code, (state, state), one, other)
+    return pairs is not None and pairs[answer[3]] == pairs[-1]
 
 
 def has_never_shape(code, answer):
@@ -100,19 +83,6 @@ def has_never_shape(code, answer):
     if not is_whole(answer[0]) or not is_whole(answer[3]):
         return False
     return is_letter_list(code[0], answer[1]) and is_letter_list(code[0], answer[2])
-
-
-def wires_are_one_round(code, answer):
-    pair = (answer[0], answer[0])
-    pairs = [pair]
-    for letter, another in zip(answer[1], answer[2]):
-        row = code[2][pair[0]][letter]
-        beside = code[2][pair[1]][another]
-        if row[0] != beside[0]:
-            return False
-        pair = (row[1], beside[1])
-        pairs.append(pair)
-    return pairs[answer[3]] == pair
 
 
 def read(code, wire):

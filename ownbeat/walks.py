@@ -40,6 +40,41 @@ def reached(code):
     return sorted(state_texts(code))
 
 
+def every_state(code):
+    return list(range(len(code[2])))
+
+
+def pair_graph(code, states):
+    graph = {}
+    for one in states:
+        for other in states:
+            graph[(one, other)] = pair_steps(code, one, other)
+    return graph
+
+
+def pair_steps(code, one, other):
+    # The letters of both that come to one word, with the states behind them.
+    steps = []
+    for letter, row in enumerate(code[2][one]):
+        for another, beside in enumerate(code[2][other]):
+            if row[0] == beside[0]:
+                steps.append(((letter, another), (row[1], beside[1])))
+    return steps
+
+
+def pairs_on_the_way(code, pair, one, other):
+    # The states ahead of each letter of two texts and behind all; None where the wires are not one.
+    pairs = [pair]
+    for letter, another in zip(one, other):
+        row = code[2][pair[0]][letter]
+        beside = code[2][pair[1]][another]
+        if row[0] != beside[0]:
+            return None
+        pair = (row[1], beside[1])
+        pairs.append(pair)
+    return pairs
+
+
 def layers_of(first, graph):
     # A layer tells of each of its nodes the node ahead and the label that led there. The graph has
     # every node, so more layers than nodes mean a walk that comes back: going on tells nothing new.

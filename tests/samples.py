@@ -24,7 +24,24 @@ LONG_LATE = (1, 2, [[("00", 1), ("00", 4)],
                     [("00", 5), ("01", 5)], [("00", 6), ("01", 6)], [("10", 0), ("11", 0)]])
 EIGHT = (1, 2, [[("01", (state + 1) % 8), ("10", (state + 3) % 8)] for state in range(8)])
 
+# The wire leans up with the one letter and back with it, in turn.
+BALANCED = (1, 2, [[("11", 1), ("10", 0)], [("00", 0), ("01", 1)]])
+# The state is the last three letters, which are sent as they are.
+SHIFT = (1, 1, [[("0", 2 * state % 8), ("1", (2 * state + 1) % 8)] for state in range(8)])
+# The state is the last three letters, and sent is the eldest of them.
+DELAY = (1, 1, [[(str(state // 4), 2 * state % 8), (str(state // 4), (2 * state + 1) % 8)] for state in range(8)])
+# Windows of six words beside the one: all back, all ahead, three of each; and one that needs seven.
+SIX_BACK = (1, 2, [[("11", 3), ("00", 0)], [("00", 5), ("01", 5)], [("00", 0), ("01", 0)], [("01", 4), ("11", 2)],
+                   [("00", 5), ("11", 4)], [("11", 4), ("01", 6)], [("01", 0), ("11", 6)], [("01", 1), ("01", 3)]])
+SIX_AHEAD = (1, 2, [[("01", 4), ("11", 3)], [("11", 4), ("11", 3)], [("10", 2), ("10", 4)], [("10", 3), ("01", 2)],
+                    [("01", 1), ("10", 0)], [("10", 5), ("11", 0)]])
+SIX_AROUND = (1, 2, [[("11", 6), ("01", 5)], [("00", 3), ("11", 6)], [("00", 0), ("11", 6)], [("00", 0), ("10", 0)],
+                     [("10", 2), ("01", 5)], [("10", 0), ("01", 2)], [("11", 7), ("11", 1)], [("00", 1), ("01", 4)]])
+SEVEN_BACK = (1, 2, [[("11", 3), ("01", 4)], [("11", 4), ("00", 1)], [("01", 6), ("00", 2)], [("11", 3), ("00", 2)],
+                     [("00", 1), ("01", 2)], [("00", 0), ("01", 5)], [("01", 1), ("00", 0)]])
+
 NAMED = [BIPHASE, TURNING, BLIND, ONE_LATE, FAR_BLIND, THREE, SIX, LONG_LATE, EIGHT]
+ANYWHERE = [BALANCED, SHIFT, DELAY, SIX_BACK, SIX_AHEAD, SIX_AROUND, SEVEN_BACK]
 
 
 class Odd:
@@ -40,6 +57,8 @@ class Odd:
 ANYTHING = [None, True, False, 0, 1, -1, 7, 10 ** 29, 0.0, 1.5, float("nan"), "", "0", "01", "x", b"01", bytearray(b"0"),
             (), (0,), (0, 1), [[]], [None], {}, {0: 1}, {0, 1}, frozenset(), range(2), object(), Odd(), int, len,
             iter([0]), 1j, [Odd()], (1, 2, 3), ["0"], [1.0], [True], [False, 0], [0, True], [0, None], [-1]]
+
+NO_TEXTS = [thing for thing in ANYTHING if not isinstance(thing, str)] + [[], [0]]
 
 
 def random_code(chance, k, n, count):
@@ -82,6 +101,33 @@ def wide_codes(seed, count):
     """Codes of all sizes that the document lets be."""
     chance = random.Random(seed)
     return [random_code(chance, chance.randint(1, 3), chance.randint(1, 6), chance.randint(1, 8)) for _ in range(count)]
+
+
+def level_codes(seed, count):
+    """Codes that lean no farther than two numbers: each state has its lean, or is never come to."""
+    chance = random.Random(seed)
+    codes = []
+    while len(codes) < count:
+        k, n = chance.randint(1, 3), chance.randint(1, 6)
+        levels = [0] + [chance.randint(-7, 7) for _ in range(chance.randint(0, 7))]
+        states = [level_rows(chance, k, n, level, levels) for level in levels]
+        if None not in states:
+            codes.append((k, n, states))
+    return codes
+
+
+def level_rows(chance, k, n, level, levels):
+    near = [state for state, to in enumerate(levels) if abs(to - level) <= n and (to - level - n) % 2 == 0]
+    if not near:
+        return None
+    found = []
+    for _ in range(2 ** k):
+        state = chance.choice(near)
+        ones = (n + levels[state] - level) // 2
+        signs = ["1"] * ones + ["0"] * (n - ones)
+        chance.shuffle(signs)
+        found.append(("".join(signs), state))
+    return found
 
 
 def rows(code, length):

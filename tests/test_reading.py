@@ -8,10 +8,9 @@ import unittest
 from ownbeat.codes import sent
 from ownbeat.errors import NoCode, NoWire
 from ownbeat.reading import is_plain, late, never, never_shows, read, read_plain
-from samples import (ANYTHING, BIPHASE, BLIND, EIGHT, FAR_BLIND, LONG_LATE, NAMED, ONE_LATE, SIX, THREE, TURNING, rows,
+from samples import (BIPHASE, BLIND, EIGHT, FAR_BLIND, LONG_LATE, NAMED, NO_TEXTS, ONE_LATE, SIX, THREE, TURNING, rows,
                      small_codes, state_behind, states_come_to, wide_codes, wire_of)
 
-NO_TEXTS = [thing for thing in ANYTHING if not isinstance(thing, str)] + [[], [0]]
 # Plain but for a state that is come to by way of another one.
 BEHIND_BLIND = (1, 1, [[("0", 0), ("1", 1)], [("1", 1), ("0", 2)], [("1", 0), ("1", 1)]])
 
