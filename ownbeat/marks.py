@@ -2,7 +2,7 @@
 
 from ownbeat.codes import sent
 from ownbeat.errors import NoLetter, NoMark, NoWire
-from ownbeat.walks import texts_from
+from ownbeat.walks import all_signs, texts_from
 
 LONGEST = 8
 
@@ -18,13 +18,6 @@ def marks(code, length):
         return []
     found = standing(code, length)
     return [signs for signs in all_signs(length) if signs not in found]
-
-
-def all_signs(length):
-    found = [""]
-    for place in range(length):
-        found = ["0" + signs for signs in found] + ["1" + signs for signs in found]
-    return found
 
 
 def standing(code, length):

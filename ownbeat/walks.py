@@ -1,4 +1,4 @@
-"""What the stages share: kinds of things, wires cut into words, and walks over states."""
+"""What the stages share: kinds of things, rows of signs, wires cut into words, and walks over states."""
 
 
 def is_whole(thing):
@@ -15,6 +15,13 @@ def is_letter_list(k, thing):
 
 def words_of(wire, n):
     return [wire[place:place + n] for place in range(0, len(wire), n)]
+
+
+def all_signs(length):
+    found = [""]
+    for place in range(length):
+        found = ["0" + signs for signs in found] + ["1" + signs for signs in found]
+    return found
 
 
 def texts_from(start, steps):

@@ -19,6 +19,10 @@ FORBIDDEN_WORDS = re.compile(r"""\b(type|typing|typing_extensions|enum|Enum|IntE
 FORBIDDEN_NAMES = set("""register mro elements open input version_info with_traceback add_note attrgetter breakpoint builtins
     compile copyright credits delattr dir eval exec exit gc getattr globals hasattr help id importlib license locals
     methodcaller os quit setattr super vars sys format format_map""".split())
+NO_VALUES = set("""items keys values pop update append clear extend insert remove reverse setdefault sort args encode
+    format""".split())
+FREE_VALUES = set("count index title find get join lower upper split strip copy add".split())
+KINDS = (str, int, list, dict, set, bytes, tuple)
 UNDERSCORED = {"__init__", "__eq__", "__repr__", "__str__", "__len__", "__all__", "__version__"}
 PYTHONS = {name for name in dir(builtins) if not name.startswith("_")}
 WALKED = {"zip", "enumerate", "reversed", "range"}
@@ -178,6 +182,20 @@ class Words(unittest.TestCase):
             self.assertEqual((node.decorator_list, node.keywords), ([], []), where)
             for one in node.body:
                 self.assertIsInstance(one, (ast.FunctionDef, ast.Pass), where)
+
+    def test_methods_and_values_of_objects(self):
+        methods, values = set(), set()
+        for where, node in nodes(ast.ClassDef):
+            found = [one.name for one in node.body if isinstance(one, ast.FunctionDef)]
+            self.assertEqual(len(found), len(set(found)), where)
+            methods.update(found)
+        for where, node in nodes(ast.Attribute):
+            if isinstance(node.ctx, ast.Store):
+                self.assertIsInstance(node.value, ast.Name, where)
+                self.assertNotIn(node.attr, NO_VALUES, where)
+                self.assertTrue(node.attr in FREE_VALUES or not any(hasattr(kind, node.attr) for kind in KINDS), where)
+                values.add(node.attr)
+        self.assertEqual(methods & values, set())
 
     def test_walked_at_once(self):
         for name, tree in trees().items():
